@@ -1,0 +1,71 @@
+package page
+
+// base is page 37, by code. A byte is enough for each character: all of them are below 100 (hexadecimal).
+const base = "" +
+	"\x00\x01\x02\x03\x9c\x09\x86\x7f\x97\x8d\x8e\x0b\x0c\x0d\x0e\x0f" +
+	"\x10\x11\x12\x13\x9d\x85\x08\x87\x18\x19\x92\x8f\x1c\x1d\x1e\x1f" +
+	"\x80\x81\x82\x83\x84\x0a\x17\x1b\x88\x89\x8a\x8b\x8c\x05\x06\x07" +
+	"\x90\x91\x16\x93\x94\x95\x96\x04\x98\x99\x9a\x9b\x14\x15\x9e\x1a" +
+	"\x20\xa0\xe2\xe4\xe0\xe1\xe3\xe5\xe7\xf1\xa2\x2e\x3c\x28\x2b\x7c" +
+	"\x26\xe9\xea\xeb\xe8\xed\xee\xef\xec\xdf\x21\x24\x2a\x29\x3b\xac" +
+	"\x2d\x2f\xc2\xc4\xc0\xc1\xc3\xc5\xc7\xd1\xa6\x2c\x25\x5f\x3e\x3f" +
+	"\xf8\xc9\xca\xcb\xc8\xcd\xce\xcf\xcc\x60\x3a\x23\x40\x27\x3d\x22" +
+	"\xd8\x61\x62\x63\x64\x65\x66\x67\x68\x69\xab\xbb\xf0\xfd\xfe\xb1" +
+	"\xb0\x6a\x6b\x6c\x6d\x6e\x6f\x70\x71\x72\xaa\xba\xe6\xb8\xc6\xa4" +
+	"\xb5\x7e\x73\x74\x75\x76\x77\x78\x79\x7a\xa1\xbf\xd0\xdd\xde\xae" +
+	"\x5e\xa3\xa5\xb7\xa9\xa7\xb6\xbc\xbd\xbe\x5b\x5d\xaf\xa8\xb4\xd7" +
+	"\x7b\x41\x42\x43\x44\x45\x46\x47\x48\x49\xad\xf4\xf6\xf2\xf3\xf5" +
+	"\x7d\x4a\x4b\x4c\x4d\x4e\x4f\x50\x51\x52\xb9\xfb\xfc\xf9\xfa\xff" +
+	"\x5c\xf7\x53\x54\x55\x56\x57\x58\x59\x5a\xb2\xd4\xd6\xd2\xd3\xd5" +
+	"\x30\x31\x32\x33\x34\x35\x36\x37\x38\x39\xb3\xdb\xdc\xd9\xda\x9f"
+
+// pair is a code and its character.
+type pair struct {
+	code byte
+	sign rune
+}
+
+var numbers = [6]int{37, 273, 297, 500, 1047, 1140}
+
+// changes tells a page by its differences from page 37, as the chapter does.
+func changes(number int) []pair {
+	switch number {
+	case 273:
+		return []pair{
+			{0x43, 0x007b}, {0x4a, 0x00c4}, {0x4f, 0x0021}, {0x59, 0x007e}, {0x5a, 0x00dc}, {0x5f, 0x005e},
+			{0x63, 0x005b}, {0x6a, 0x00f6}, {0x7c, 0x00a7}, {0xa1, 0x00df}, {0xb0, 0x00a2}, {0xb5, 0x0040},
+			{0xba, 0x00ac}, {0xbb, 0x007c}, {0xc0, 0x00e4}, {0xcc, 0x00a6}, {0xd0, 0x00fc}, {0xdc, 0x007d},
+			{0xe0, 0x00d6}, {0xec, 0x005c}, {0xfc, 0x005d},
+		}
+	case 297:
+		return []pair{
+			{0x44, 0x0040}, {0x48, 0x005c}, {0x4a, 0x00b0}, {0x4f, 0x0021}, {0x51, 0x007b}, {0x54, 0x007d},
+			{0x5a, 0x00a7}, {0x5f, 0x005e}, {0x6a, 0x00f9}, {0x79, 0x00b5}, {0x7b, 0x00a3}, {0x7c, 0x00e0},
+			{0x90, 0x005b}, {0xa0, 0x0060}, {0xa1, 0x00a8}, {0xb0, 0x00a2}, {0xb1, 0x0023}, {0xb5, 0x005d},
+			{0xba, 0x00ac}, {0xbb, 0x007c}, {0xbd, 0x007e}, {0xc0, 0x00e9}, {0xd0, 0x00e8}, {0xdd, 0x00a6},
+			{0xe0, 0x00e7},
+		}
+	case 500:
+		return []pair{
+			{0x4a, 0x005b}, {0x4f, 0x0021}, {0x5a, 0x005d}, {0x5f, 0x005e}, {0xb0, 0x00a2}, {0xba, 0x00ac},
+			{0xbb, 0x007c},
+		}
+	case 1047:
+		return []pair{
+			{0x5f, 0x005e}, {0xad, 0x005b}, {0xb0, 0x00ac}, {0xba, 0x00dd}, {0xbb, 0x00a8}, {0xbd, 0x005d},
+		}
+	case 1140:
+		return []pair{
+			{0x9f, 0x20ac},
+		}
+	}
+	return nil
+}
+
+// escapes are the graphic escapes, the same for every page.
+var escapes = [19]pair{
+	{0x70, 0x2227}, {0x85, 0x2502}, {0x8a, 0x2191}, {0x8b, 0x2193}, {0x8c, 0x2264}, {0x8f, 0x2192},
+	{0x9f, 0x2190}, {0xa2, 0x2500}, {0xae, 0x2265}, {0xbe, 0x2260}, {0xc4, 0x2514}, {0xc5, 0x250c},
+	{0xc6, 0x251c}, {0xc7, 0x2534}, {0xd3, 0x253c}, {0xd4, 0x2518}, {0xd5, 0x2510}, {0xd6, 0x2524},
+	{0xd7, 0x252c},
+}
